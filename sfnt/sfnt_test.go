@@ -469,20 +469,24 @@ func TestNothingHandedInIsChanged(t *testing.T) {
 	}
 }
 
-// stretch is the memory of a text, or of a list with its spare room.
+// stretch is the memory of a text, or of a list with its spare room. It holds a
+// pointer, not a number, so that this memory is not freed and given to another
+// answer while stretches are gathered.
 type stretch struct {
-	what     string
-	from, to uintptr
+	what string
+	at   unsafe.Pointer
+	size uintptr
 }
 
+func (a stretch) from() uintptr { return uintptr(a.at) }
+func (a stretch) to() uintptr   { return uintptr(a.at) + a.size }
+
 func ofText(what, s string) stretch {
-	from := uintptr(unsafe.Pointer(unsafe.StringData(s)))
-	return stretch{what, from, from + uintptr(len(s))}
+	return stretch{what, unsafe.Pointer(unsafe.StringData(s)), uintptr(len(s))}
 }
 
 func ofTables(what string, l []api.Table) []stretch {
-	from := uintptr(unsafe.Pointer(unsafe.SliceData(l)))
-	all := []stretch{{what, from, from + uintptr(cap(l))*unsafe.Sizeof(api.Table{})}}
+	all := []stretch{{what, unsafe.Pointer(unsafe.SliceData(l)), uintptr(cap(l)) * unsafe.Sizeof(api.Table{})}}
 	for _, x := range l {
 		all = append(all, ofText(what+"'s tag "+x.Tag, x.Tag), ofText(what+"'s data of "+x.Tag, x.Data))
 	}
@@ -493,7 +497,7 @@ func apart(t *testing.T, l []stretch) {
 	t.Helper()
 	for i, a := range l {
 		for _, b := range l[:i] {
-			if max(a.from, b.from) < min(a.to, b.to) {
+			if max(a.from(), b.from()) < min(a.to(), b.to()) {
 				t.Errorf("%s and %s share memory", a.what, b.what)
 			}
 		}
